@@ -1,0 +1,1 @@
+"""Staycounts: what counts of arrivals and departures tell about stays."""

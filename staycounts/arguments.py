@@ -1,0 +1,36 @@
+"""Checks of arguments that several files share."""
+
+from staycounts.errors import InvalidNumber, InvalidStay, InvalidTick
+
+
+def is_integer_from(value, low, high):
+    """Return whether a value is an integer from `low` to `high`."""
+    # A bool is an int in Python, but never an integer here.
+    return isinstance(value, int) and not isinstance(value, bool) and low <= value <= high
+
+
+def check_tick(tick, low, high):
+    """Raise InvalidTick if a value is not an integer from `low` to `high`."""
+    if not is_integer_from(tick, low, high):
+        raise InvalidTick(tick)
+
+
+def check_number(number, low, high):
+    """Raise InvalidNumber if a value is not an integer from `low` to `high`."""
+    if not is_integer_from(number, low, high):
+        raise InvalidNumber(number)
+
+
+def is_stay_within(ticks, value):
+    """Return whether a value is a stay of counts with so many ticks."""
+    if not isinstance(value, tuple) or len(value) != 2:
+        return False
+    arrived, left = value
+    return is_integer_from(arrived, 0, ticks - 1) and is_integer_from(left, arrived, ticks)
+
+
+def check_stays(ticks, stays):
+    """Raise InvalidStay if one of the values is not a stay of counts with so many ticks."""
+    for index, value in enumerate(stays):
+        if not is_stay_within(ticks, value):
+            raise InvalidStay(index)
