@@ -1,6 +1,8 @@
 """Checks of arguments that several files share."""
 
-from staycounts.errors import InvalidNumber, InvalidStay, InvalidTick
+from staycounts.errors import InvalidLength, InvalidNumber, InvalidStay, InvalidTick
+
+MAX_LENGTH = 60
 
 
 def is_integer_from(value, low, high):
@@ -19,6 +21,18 @@ def check_number(number, low, high):
     """Raise InvalidNumber if a value is not an integer from `low` to `high`."""
     if not is_integer_from(number, low, high):
         raise InvalidNumber(number)
+
+
+def check_range(ticks, first, last):
+    """Raise InvalidTick if two values are not a range of counts with so many ticks."""
+    check_tick(first, 0, ticks - 1)
+    check_tick(last, first, ticks - 1)
+
+
+def check_length(length, low):
+    """Raise InvalidLength if a value is not an integer from `low` to 60."""
+    if not is_integer_from(length, low, MAX_LENGTH):
+        raise InvalidLength(length)
 
 
 def is_stay_within(ticks, value):

@@ -41,3 +41,15 @@ def first_shortage(arrivals, departures):
             if number < 0:
                 return (word, tick)
     return None
+
+
+def cut_sum(arrivals, departures, first, place, last):
+    """Return the arrivals of a range before a place in it and the departures from there on."""
+    # Whoever came and left within the range is among the former or the latter.
+    return sum(arrivals[first:place]) + sum(departures[place:last + 1])
+
+
+def least_within(arrivals, departures, first, last):
+    """Return the least number of people who came and left within a range."""
+    # All others who left by the end of the range arrived before it.
+    return max(0, sum(departures[:last + 1]) - sum(arrivals[:first]))

@@ -9,6 +9,12 @@ from staycounts.counts import Counts
 # Values that are no integers in the sense of the document, whatever the limits are.
 NO_INTEGERS = (True, False, "1", "", b"1", (), (1,), [1], {}, {1: 1}, object(), Counts((1,), (1,)), len)
 
+# Values that are no Counts, and values that are no stays of the example below.
+NO_COUNTS = (None, 1, True, "1/0", (1, 0), ((1,), (0,)), [1], {}, Counts, object())
+NO_STAYS = (None, 1, "01", b"01", [0, 1], {0: 1, 1: 0}, (), (0,), (0, 1, 1), ((0, 1),), (1, 0), (-1, 1), (-1, -1),
+            (0, 5), (4, 4), (4, 5), (0, -1), (True, 1), (0, True), (False, 0), (0, False), (0, None), (None, 1),
+            ("0", 1), (0, "1"), ((0,), 1), (0, [1]), Counts((2, 0, 1, 0), (0, 1, 1, 1)), object())
+
 
 def example():
     """Return the counts of the document's examples."""
@@ -74,3 +80,31 @@ def choices(present, number):
 def has_all(history, stays):
     """Return whether a history has each stay as many times as it is known."""
     return not Counter(stays) - history
+
+
+def as_history(history):
+    """Return a Counter of stays as the tuple of triples that the document calls a history."""
+    return tuple(sorted((arrived, left, number) for (arrived, left), number in history.items()))
+
+
+def slow_histories(counts):
+    """Return all histories as tuples of triples, in ascending order, without calling the package."""
+    return sorted(as_history(history) for history in all_histories(counts))
+
+
+def random_counts(generator, ticks, people):
+    """Return Counts with so many ticks and people, of whom about as many leave as can."""
+    arrivals = [0] * ticks
+    for _ in range(people):
+        arrivals[generator.randrange(ticks)] += 1
+    departures = []
+    present = 0
+    for arriving in arrivals:
+        departures.append(generator.randint(0, present + arriving))
+        present += arriving - departures[-1]
+    return Counts(tuple(arrivals), tuple(departures))
+
+
+def large_counts():
+    """Return counts with 60 ticks and 999 people, of whom 945 leave."""
+    return Counts((39,) + (16,) * 58 + (32,), (0,) + (16,) * 58 + (17,))

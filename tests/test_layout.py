@@ -5,16 +5,39 @@ import inspect
 import unittest
 from pathlib import Path
 
-from staycounts import counts, errors, stays
+from staycounts import counts, errors, histories, lengths, ranges, rules, stays
 
 FOLDER = Path(errors.__file__).parent
 FUNCTIONS = {
-    "is_stay": "(counts, value)",
-    "obstacle": "(counts, *stays)",
-    "possible": "(counts, *stays)",
-    "possible_departures": "(counts, arrived, *stays)",
-    "possible_arrivals": "(counts, left, *stays)",
-    "bounds": "(counts, arrived, left)",
+    stays: {
+        "is_stay": "(counts, value)",
+        "obstacle": "(counts, *stays)",
+        "possible": "(counts, *stays)",
+        "possible_departures": "(counts, arrived, *stays)",
+        "possible_arrivals": "(counts, left, *stays)",
+        "bounds": "(counts, arrived, left)",
+    },
+    histories: {
+        "is_history": "(counts, value)",
+        "has_stays": "(counts, history, *stays)",
+        "histories": "(counts)",
+        "history_with": "(counts, *stays)",
+    },
+    ranges: {
+        "within": "(counts, first, last)",
+        "throughout": "(counts, first, last)",
+        "cut": "(counts, first, last)",
+        "history_within": "(counts, first, last, number)",
+    },
+    lengths: {
+        "can_keep": "(counts, *, least=0, most=60)",
+        "breach": "(counts, *, least=0, most=60)",
+        "longest": "(counts)",
+        "shortest": "(counts)",
+        "long_stays": "(counts, length)",
+        "barrier": "(counts, length)",
+        "short_barrier": "(counts, length)",
+    },
 }
 METHODS = {
     "__init__": "(self, arrivals, departures)",
@@ -34,10 +57,11 @@ METHODS = {
 
 class InterfaceTest(unittest.TestCase):
     def test_functions_stand_in_their_file(self):
-        for name, parameters in FUNCTIONS.items():
-            function = getattr(stays, name)
-            self.assertEqual(function.__module__, "staycounts.stays")
-            self.assertEqual(str(inspect.signature(function)), parameters)
+        for module, functions in FUNCTIONS.items():
+            for name, parameters in functions.items():
+                function = getattr(module, name)
+                self.assertEqual(function.__module__, module.__name__)
+                self.assertEqual(str(inspect.signature(function)), parameters)
 
     def test_methods_stand_in_the_class(self):
         self.assertEqual(counts.Counts.__module__, "staycounts.counts")
@@ -46,6 +70,18 @@ class InterfaceTest(unittest.TestCase):
             self.assertIn(name, vars(counts.Counts))
             if parameters is not None:
                 self.assertEqual(str(inspect.signature(getattr(counts.Counts, name))), parameters)
+
+    def test_rules_stand_in_their_file(self):
+        made = {rules.Rule: "()", rules.EldestFirst: "()", rules.YoungestFirst: "()",
+                rules.MostLong: "(length)", rules.FewestLong: "(length)"}
+        for rule, parameters in made.items():
+            self.assertEqual(rule.__module__, "staycounts.rules")
+            self.assertEqual(str(inspect.signature(rule)), parameters)
+            self.assertEqual(str(inspect.signature(rule.__call__)), "(self, counts)")
+            self.assertLessEqual({"__call__", "__eq__", "__str__"}, set(vars(rule)))
+        self.assertEqual(rules.Rule.__bases__, (object,))
+        self.assertIsInstance(vars(rules.Rule)["named"], staticmethod)
+        self.assertEqual(str(inspect.signature(rules.Rule.named)), "(name, length=1)")
 
     def test_counts_are_not_iterated_over(self):
         with self.assertRaises(TypeError):

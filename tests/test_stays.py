@@ -6,12 +6,8 @@ from itertools import combinations_with_replacement
 from staycounts.counts import Counts
 from staycounts.errors import Impossible, InvalidStay, InvalidTick, NotCounts
 from staycounts.stays import bounds, is_stay, obstacle, possible, possible_arrivals, possible_departures
-from tests.support import NO_INTEGERS, ErrorCase, all_histories, example, has_all, small_counts, stays_of_size
-
-NO_COUNTS = (None, 1, True, "1/0", (1, 0), ((1,), (0,)), [1], {}, Counts, object())
-NO_STAYS = (None, 1, "01", b"01", [0, 1], {0: 1, 1: 0}, (), (0,), (0, 1, 1), ((0, 1),), (1, 0), (-1, 1), (-1, -1),
-            (0, 5), (4, 4), (4, 5), (0, -1), (True, 1), (0, True), (False, 0), (0, False), (0, None), (None, 1),
-            ("0", 1), (0, "1"), ((0,), 1), (0, [1]), example(), object())
+from tests.support import (NO_COUNTS, NO_INTEGERS, NO_STAYS, ErrorCase, all_histories, example, has_all, small_counts,
+                           stays_of_size)
 
 
 class IsStayTest(ErrorCase):
