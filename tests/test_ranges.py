@@ -176,7 +176,8 @@ class ErrorsTest(ErrorCase):
     def test_wrong_numbers(self):
         for wrong in (-1, 3, 10 ** 50, None, *NO_INTEGERS):
             self.fails(InvalidNumber, {"number": wrong}, history_within, example(), 2, 2, wrong)
-            self.fails(InvalidNumber, {"number": wrong}, history_within, number=wrong, counts=example(), first=2, last=2)
+            named = {"number": wrong, "last": 2, "first": 2, "counts": example()}
+            self.fails(InvalidNumber, {"number": wrong}, history_within, **named)
         self.fails(InvalidNumber, {"number": 0}, history_within, example(), 2, 3, 0)
 
     def test_order_of_errors(self):
