@@ -48,3 +48,10 @@ def check_stays(ticks, stays):
     for index, value in enumerate(stays):
         if not is_stay_within(ticks, value):
             raise InvalidStay(index)
+
+
+def check_ended_stays(ticks, stays):
+    """Raise InvalidStay if one of the values is not an ended stay of counts with so many ticks."""
+    for index, value in enumerate(stays):
+        if not is_stay_within(ticks, value) or value[1] == ticks:
+            raise InvalidStay(index)

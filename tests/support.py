@@ -2,7 +2,7 @@
 
 import unittest
 from collections import Counter
-from itertools import combinations_with_replacement, product
+from itertools import combinations, combinations_with_replacement, product
 
 from staycounts.counts import Counts
 
@@ -54,6 +54,11 @@ def stays_of_size(ticks):
     return [(a, b) for a in range(ticks) for b in range(a, ticks + 1)]
 
 
+def ended_stays_of_size(ticks):
+    """Return all ended stays of counts with so many ticks."""
+    return [(a, b) for a in range(ticks) for b in range(a, ticks)]
+
+
 def all_histories(counts):
     """Return all histories, each as a Counter of stays, by trying who leaves at each tick."""
     ticks = len(counts.arrivals)
@@ -92,6 +97,21 @@ def slow_histories(counts):
     return sorted(as_history(history) for history in all_histories(counts))
 
 
+def slow_obstacle(counts, known):
+    """Return the obstacle by the words of point 17, tick by tick."""
+    for tick in range(len(counts)):
+        begin = sum(arrived == tick for arrived, left in known)
+        end = sum(left == tick for arrived, left in known)
+        cover = sum(arrived <= tick < left for arrived, left in known)
+        if begin > counts.arrivals[tick]:
+            return ("arrivals", tick)
+        if end > counts.departures[tick]:
+            return ("departures", tick)
+        if cover > counts.present[tick]:
+            return ("present", tick)
+    return None
+
+
 def random_counts(generator, ticks, people):
     """Return Counts with so many ticks and people, of whom about as many leave as can."""
     arrivals = [0] * ticks
@@ -103,6 +123,54 @@ def random_counts(generator, ticks, people):
         departures.append(generator.randint(0, present + arriving))
         present += arriving - departures[-1]
     return Counts(tuple(arrivals), tuple(departures))
+
+
+def random_rows(generator, doors, ticks, people):
+    """Return the rows of a chain with so many doors: who arrives, and who passes each door, at each tick."""
+    rows = [random_counts(generator, ticks, people).arrivals]
+    for _ in range(doors):
+        passing = []
+        for tick in range(ticks):
+            passing.append(generator.randint(0, sum(rows[-1][:tick + 1]) - sum(passing)))
+        rows.append(tuple(passing))
+    return tuple(rows)
+
+
+def all_outcomes(rows):
+    """Return the stays in the house, as Counters, after everything that can have happened at the doors of a chain."""
+    ticks, doors = len(rows[0]), len(rows) - 1
+    found = {((),) * (doors + 1)}
+    for tick in range(ticks):
+        found = {(rooms[0] + (tick,) * rows[0][tick], *rooms[1:]) for rooms in found}
+        for door in range(doors):
+            found = {after for rooms in found for after in passed(rooms, door, rows[door + 1][tick], tick)}
+    return [Counter((*ended, *[(arrived, ticks) for room in inside for arrived in room])) for *inside, ended in found]
+
+
+def passed(rooms, door, number, tick):
+    """Return all that rooms can be after so many people pass a door; behind the last one their stays are kept."""
+    found = set()
+    for passing in choices(rooms[door], number):
+        staying = tuple(sorted((Counter(rooms[door]) - Counter(passing)).elements()))
+        ended = door == len(rooms) - 2
+        coming = tuple((arrived, tick) for arrived in passing) if ended else passing
+        found.add((*rooms[:door], staying, tuple(sorted(rooms[door + 1] + coming)), *rooms[door + 2:]))
+    return found
+
+
+def all_ways(counts):
+    """Return all ways: for each person, in the order of arrival, the pair of the arrival and when this person left."""
+    came = [tick for tick, number in enumerate(counts.arrivals) for _ in range(number)]
+    ticks = len(counts.arrivals)
+    found = [(ticks,) * len(came)]
+    for tick, leaving in enumerate(counts.departures):
+        longer = []
+        for lefts in found:
+            present = [k for k, arrived in enumerate(came) if arrived <= tick and lefts[k] == ticks]
+            for chosen in combinations(present, leaving):
+                longer.append(tuple(tick if k in chosen else left for k, left in enumerate(lefts)))
+        found = longer
+    return [tuple(zip(came, lefts)) for lefts in found]
 
 
 def large_counts():

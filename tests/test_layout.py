@@ -5,7 +5,7 @@ import inspect
 import unittest
 from pathlib import Path
 
-from staycounts import counts, errors, histories, lengths, ranges, rules, stays
+from staycounts import book, chains, chances, counts, errors, histories, lengths, ranges, rules, stays
 
 FOLDER = Path(errors.__file__).parent
 FUNCTIONS = {
@@ -38,21 +38,61 @@ FUNCTIONS = {
         "barrier": "(counts, length)",
         "short_barrier": "(counts, length)",
     },
+    chances: {
+        "ways": "(counts, history=None)",
+        "chance": "(counts, history)",
+        "stay_chance": "(counts, arrived, left)",
+        "mean_within": "(counts, first, last)",
+    },
+    book: {
+        "assign_limit": "(book, value)",
+    },
 }
 METHODS = {
-    "__init__": "(self, arrivals, departures)",
-    "__getitem__": None,
-    "__add__": "(self, other)",
-    "__len__": "(self)",
-    "__eq__": None,
-    "__str__": "(self)",
-    "__repr__": "(self)",
-    "read": "(text)",
-    "quiet": "(ticks)",
-    "changed": "(self, tick, *, arrivals=None, departures=None)",
-    "extended": "(self, arrivals, departures)",
-    "without": "(self, *stays)",
+    counts.Counts: {
+        "__init__": "(self, arrivals, departures)",
+        "__getitem__": None,
+        "__add__": "(self, other)",
+        "__len__": "(self)",
+        "__eq__": None,
+        "__str__": "(self)",
+        "__repr__": "(self)",
+        "read": "(text)",
+        "quiet": "(ticks)",
+        "changed": "(self, tick, *, arrivals=None, departures=None)",
+        "extended": "(self, arrivals, departures)",
+        "without": "(self, *stays)",
+    },
+    chains.Chain: {
+        "__init__": "(self, arrivals, *doors)",
+        "__getitem__": None,
+        "__len__": "(self)",
+        "__eq__": None,
+        "__repr__": "(self)",
+        "within": "(self, first, last)",
+        "cuts": "(self, first, last)",
+        "possible_departures": "(self, arrived)",
+        "can_keep": "(self, *, least=0, most=60)",
+    },
+    book.Book: {
+        "__init__": "(self, counts, *known)",
+        "__len__": "(self)",
+        "__eq__": None,
+        "__repr__": "(self)",
+        "do": "(self, deed)",
+        "do_all": "(self, *deeds, watch=None)",
+        "undo": "(self)",
+        "within": "(self, first, last)",
+        "long_stays": "(self, length)",
+        "leave_ticks": "(self, arrived)",
+    },
 }
+PROPERTIES = {
+    counts.Counts: ("present", "people"),
+    chains.Chain: ("house",),
+    book.Book: ("counts", "known", "others", "max_length", "log"),
+}
+FILES = {counts.Counts: counts, chains.Chain: chains, book.Book: book}
 
 
 class InterfaceTest(unittest.TestCase):
@@ -64,12 +104,19 @@ class InterfaceTest(unittest.TestCase):
                 self.assertEqual(str(inspect.signature(function)), parameters)
 
     def test_methods_stand_in_the_class(self):
-        self.assertEqual(counts.Counts.__module__, "staycounts.counts")
-        self.assertEqual(counts.Counts.__bases__, (object,))
-        for name, parameters in METHODS.items():
-            self.assertIn(name, vars(counts.Counts))
-            if parameters is not None:
-                self.assertEqual(str(inspect.signature(getattr(counts.Counts, name))), parameters)
+        for owner, methods in METHODS.items():
+            self.assertEqual(owner.__module__, FILES[owner].__name__)
+            self.assertEqual(owner.__bases__, (object,))
+            for name, parameters in methods.items():
+                self.assertIn(name, vars(owner))
+                if parameters is not None:
+                    self.assertEqual(str(inspect.signature(getattr(owner, name))), parameters)
+
+    def test_properties_stand_in_the_class(self):
+        for owner, names in PROPERTIES.items():
+            for name in names:
+                self.assertIsInstance(vars(owner)[name], property)
+        self.assertIsNotNone(vars(book.Book)["max_length"].fset)
 
     def test_rules_stand_in_their_file(self):
         made = {rules.Rule: "()", rules.EldestFirst: "()", rules.YoungestFirst: "()",
@@ -112,5 +159,5 @@ class FilesTest(unittest.TestCase):
         for path in FOLDER.glob("*.py"):
             for node in ast.walk(ast.parse(path.read_text())):
                 self.assertNotIsInstance(node, ast.Import)
-                if isinstance(node, ast.ImportFrom):
+                if isinstance(node, ast.ImportFrom) and node.module != "math":
                     self.assertTrue(node.module.startswith("staycounts."), (path, node.module))

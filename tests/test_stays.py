@@ -6,8 +6,8 @@ from itertools import combinations_with_replacement
 from staycounts.counts import Counts
 from staycounts.errors import Impossible, InvalidStay, InvalidTick, NotCounts
 from staycounts.stays import bounds, is_stay, obstacle, possible, possible_arrivals, possible_departures
-from tests.support import (NO_COUNTS, NO_INTEGERS, NO_STAYS, ErrorCase, all_histories, example, has_all, small_counts,
-                           stays_of_size)
+from tests.support import (NO_COUNTS, NO_INTEGERS, NO_STAYS, ErrorCase, all_histories, example, has_all, slow_obstacle,
+                           small_counts, stays_of_size)
 
 
 class IsStayTest(ErrorCase):
@@ -111,21 +111,6 @@ class ObstacleTest(ErrorCase):
                 for known in combinations_with_replacement(stays_of_size(3), number):
                     expected = any(has_all(history, known) for history in histories)
                     self.assertIs(possible(counts, *known), expected)
-
-
-def slow_obstacle(counts, known):
-    """Return the obstacle by the words of point 17, tick by tick."""
-    for tick in range(len(counts)):
-        begin = sum(arrived == tick for arrived, left in known)
-        end = sum(left == tick for arrived, left in known)
-        cover = sum(arrived <= tick < left for arrived, left in known)
-        if begin > counts.arrivals[tick]:
-            return ("arrivals", tick)
-        if end > counts.departures[tick]:
-            return ("departures", tick)
-        if cover > counts.present[tick]:
-            return ("present", tick)
-    return None
 
 
 class PossibleTicksTest(ErrorCase):
