@@ -11,6 +11,14 @@ def is_integer_from(value, low, high):
     return isinstance(value, int) and not isinstance(value, bool) and low <= value <= high
 
 
+def is_written_number(text, digits):
+    """Return whether a text is a number of at most so many digits, without leading zeros."""
+    # isdigit alone would also take digits of other scripts.
+    if not text.isascii() or not text.isdigit():
+        return False
+    return len(text) <= digits and (text == "0" or not text.startswith("0"))
+
+
 def check_tick(tick, low, high):
     """Raise InvalidTick if a value is not an integer from `low` to `high`."""
     if not is_integer_from(tick, low, high):

@@ -85,7 +85,7 @@ def _room(index, arrivals, departures):
 def _later_departures(room, ticks):
     """Return when somebody who came into a room at one of these ticks can have left it."""
     # Whoever has not come before the end is still in a room ahead of it. People who
-    # come into the room at one tick can change places, so all of its stays are open.
+    # come into the room at one tick can change places, so all stays in it are possible.
     found = {tick: True for tick in ticks if tick == len(room)}
     for tick in ticks:
         if tick < len(room):

@@ -1,6 +1,6 @@
 """Counts: how many people arrive and how many leave at each tick."""
 
-from staycounts.arguments import check_number, check_stays, check_tick, is_integer_from
+from staycounts.arguments import check_number, check_stays, check_tick, is_integer_from, is_written_number
 from staycounts.errors import Impossible, InvalidCounts, InvalidText, NotCounts, TooMany
 from staycounts.tallies import first_shortage, numbers_without, present_after
 
@@ -141,10 +141,7 @@ def _is_number(value):
 
 def _is_written_number(text):
     """Return whether a text is a number of people in digits, without leading zeros."""
-    # isdigit alone would also take digits of other scripts.
-    if not text.isascii() or not text.isdigit():
-        return False
-    return len(text) <= len(str(Counts.MAX_PEOPLE)) and (text == "0" or not text.startswith("0"))
+    return is_written_number(text, len(str(Counts.MAX_PEOPLE)))
 
 
 def _replaced(numbers, tick, number):

@@ -5,6 +5,7 @@ from staycounts.counts import check_counts
 from staycounts.covers import least_long_cover, least_short_cover
 from staycounts.rules import EldestFirst, FewestLong, MostLong
 from staycounts.stays import possible_departures
+from staycounts.triples import number_of_long
 
 
 def can_keep(counts, *, least=0, most=60):
@@ -51,7 +52,8 @@ def long_stays(counts, length):
     check_counts(counts)
     fewest = FewestLong(length)
     most = MostLong(length)
-    return (_number_of_long(counts, fewest(counts), length), _number_of_long(counts, most(counts), length))
+    ticks = len(counts)
+    return (number_of_long(fewest(counts), ticks, length), number_of_long(most(counts), ticks, length))
 
 
 def barrier(counts, length):
@@ -84,8 +86,3 @@ def _eldest_lengths(counts):
 def _possible_lengths(counts):
     """Return the lengths of all stays that somebody can have."""
     return [left - arrived for arrived in range(len(counts)) for left in possible_departures(counts, arrived)]
-
-
-def _number_of_long(counts, history, length):
-    """Return the number of ended stays of at least a length in a history."""
-    return sum([number for arrived, left, number in history if left < len(counts) and left - arrived >= length])

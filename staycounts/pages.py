@@ -4,7 +4,7 @@ from staycounts.arguments import check_ended_stays, check_length, is_stay_within
 from staycounts.errors import InvalidDeed, LimitBroken, NotKnown
 from staycounts.lengths import can_keep
 
-# How many elements a deed has, its word included.
+# How many parts a deed has, its word included.
 DEED_SIZES = {"learn": 2, "forget": 2, "correct": 4, "extend": 3, "limit": 2}
 
 
@@ -52,7 +52,7 @@ def page_after(page, deed):
 
 
 def _is_deed(value):
-    """Return whether a value is a tuple with the word of a deed and as many elements as this deed has."""
+    """Return whether a value is a tuple with the word of a deed and as many parts as this deed has."""
     if not isinstance(value, tuple) or len(value) == 0 or not isinstance(value[0], str):
         return False
     return DEED_SIZES.get(value[0]) == len(value)

@@ -31,16 +31,18 @@ def numbers_without(arrivals, departures, stays):
     return tuple(arriving), tuple(leaving)
 
 
-def first_shortage(arrivals, departures):
-    """Return the word and the tick of the first number below 0, or None."""
+def shortages(arrivals, departures):
+    """Return the words and ticks of all numbers below 0 as a list of pairs, tick by tick."""
     # Each known stay takes one person from the people present after each tick
     # that it covers, so a number below 0 there means that too many cover it.
-    present = present_after(arrivals, departures)
-    for tick, numbers in enumerate(zip(arrivals, departures, present)):
-        for word, number in zip(WORDS, numbers):
-            if number < 0:
-                return (word, tick)
-    return None
+    rows = list(zip(arrivals, departures, present_after(arrivals, departures)))
+    return [(word, tick) for tick, numbers in enumerate(rows) for word, number in zip(WORDS, numbers) if number < 0]
+
+
+def first_shortage(arrivals, departures):
+    """Return the word and the tick of the first number below 0, or None."""
+    found = shortages(arrivals, departures)
+    return found[0] if found else None
 
 
 def cut_sum(arrivals, departures, first, place, last):

@@ -5,7 +5,8 @@ import inspect
 import unittest
 from pathlib import Path
 
-from staycounts import book, chains, chances, counts, errors, histories, lengths, ranges, rules, stays
+from staycounts import (book, certificates, chains, chances, checker, console, counts, errors, histories, lengths,
+                        ranges, report, rules, stays)
 
 FOLDER = Path(errors.__file__).parent
 FUNCTIONS = {
@@ -47,6 +48,18 @@ FUNCTIONS = {
     book: {
         "assign_limit": "(book, value)",
     },
+    report: {
+        "table": "(counts, *, totals=False)",
+    },
+    checker: {
+        "accepts": "(claim, certificate)",
+    },
+    certificates: {
+        "certify_known": "(counts, *stays)",
+        "certify_within": "(counts, first, last)",
+        "certify_limits": "(counts, *, least=0, most=60)",
+        "certify_long": "(counts, length)",
+    },
 }
 METHODS = {
     counts.Counts: {
@@ -86,13 +99,17 @@ METHODS = {
         "long_stays": "(self, length)",
         "leave_ticks": "(self, arrived)",
     },
+    console.Console: {
+        "__init__": "(self, text)",
+        "execute": "(self, command)",
+    },
 }
 PROPERTIES = {
     counts.Counts: ("present", "people"),
     chains.Chain: ("house",),
     book.Book: ("counts", "known", "others", "max_length", "log"),
 }
-FILES = {counts.Counts: counts, chains.Chain: chains, book.Book: book}
+FILES = {counts.Counts: counts, chains.Chain: chains, book.Book: book, console.Console: console}
 
 
 class InterfaceTest(unittest.TestCase):
