@@ -371,7 +371,7 @@ class StaysTest(ErrorCase):
 
     def test_the_extreme_lengths(self):
         chain = Chain((1,) + (0,) * 59, (0,) * 60, (0,) * 60)
-        self.assertEqual([chain.can_keep(most=60), chain.can_keep(most=59)], [True, False])
+        self.assertEqual([chain.can_keep(), chain.can_keep(most=60), chain.can_keep(most=59)], [True, True, False])
         chain = Chain((1,), (1,), (1,))
         self.assertEqual([chain.can_keep(most=0), chain.can_keep(least=1), chain.can_keep(least=60)],
                          [True, False, False])

@@ -215,6 +215,8 @@ class ErrorsTest(ErrorCase):
         for tick in (1, 3):
             self.fails(InvalidTick, {"tick": tick}, stay_chance, example(), tick, tick)
             self.fails(InvalidTick, {"tick": tick}, stay_chance, example(), tick, 4)
+        # Somebody arrives at the last tick, but -1 does not mean this one.
+        self.fails(InvalidTick, {"tick": -1}, stay_chance, Counts((1, 1), (0, 0)), -1, 2)
 
     def test_the_first_tick_is_checked_first(self):
         self.fails(InvalidTick, {"tick": -1}, stay_chance, example(), -1, -2)

@@ -299,6 +299,16 @@ class EdgesTest(ErrorCase):
         for length, expected in ((0, False), (1, True), (60, True), (61, False)):
             proof = (one, one, ((), (), ()), ((0,), (), ()))
             self.same(accepts(("long", (1,), (1,), length, 0, 0), proof), expected)
+        # All ended stays have at least the length 0, but this is not a length that a claim can have.
+        proof = (one, one, ((), (0,), ()), ((), (), ()))
+        self.same(accepts(("long", (1,), (1,), 0, 1, 1), proof), False)
+
+    def test_ranges(self):
+        for first, last, expected in ((0, 1, True), (1, 1, True), (-1, 1, False), (0, 2, False), (2, 2, False),
+                                      (1, 0, False), (-1, -1, False), (0, 10 ** 50, False)):
+            for place in (first, last, last + 1):
+                claim = ("within", (0, 0), (0, 0), first, last, 0, 0)
+                self.same(accepts(claim, ((), (), place)), expected)
 
     def test_a_person_whom_nobody_is(self):
         for k in (0, -1, 4, 999, 1000, 10 ** 50):
